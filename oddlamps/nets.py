@@ -89,6 +89,20 @@ def need_lamp(net, lamp):
         raise InvalidLamp(lamp)
 
 
+def need_free_lamp(net, lamp):
+    """Raise an error unless this is a free lamp of a net."""
+    need_lamp(net, lamp)
+    if not is_free(net, lamp):
+        raise InvalidLamp(lamp)
+
+
+def need_stuck_lamp(net, lamp):
+    """Raise an error unless this is a stuck lamp of a net."""
+    need_lamp(net, lamp)
+    if is_free(net, lamp):
+        raise InvalidLamp(lamp)
+
+
 def need_rising_lamps(net, lamps):
     """Raise InvalidLamps unless this is an ascending list of lamps of a net."""
     if not (are_lamps(net, lamps) and is_ascending(lamps)):
@@ -98,6 +112,17 @@ def need_rising_lamps(net, lamps):
 def need_some_lamps(net, lamps):
     """Raise InvalidLamps unless this is a list, not empty, of unlike lamps of a net, in any order."""
     if not (are_lamps(net, lamps) and lamps and are_unlike(lamps)):
+        raise InvalidLamps(lamps)
+
+
+def is_list_of(piece, value):
+    """Tell whether any object is a list of a piece: an ascending list of its lamps."""
+    return are_words(value) and is_ascending(value) and all([lamp in piece for lamp in value])
+
+
+def need_list_of(piece, lamps):
+    """Raise InvalidLamps unless this is an ascending list of lamps of a piece."""
+    if not is_list_of(piece, lamps):
         raise InvalidLamps(lamps)
 
 
@@ -163,9 +188,7 @@ def pieces(net):
 
 def piece_of(net, lamp):
     """Return the piece that has a free lamp."""
-    need_lamp(net, lamp)
-    if not is_free(net, lamp):
-        raise InvalidLamp(lamp)
+    need_free_lamp(net, lamp)
     return _piece_with(net, lamp)
 
 

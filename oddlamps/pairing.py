@@ -38,7 +38,7 @@ def put_pairing_in_order(pairing):
     return [tuple(sorted([called[low], called[high]])) for low, high in pairing]
 
 
-def _lots(masks):
+def lots_of(masks):
     """Return the masks of three lots of lamps at most that are tied exactly across lots, None if there are no such.
 
     Lamps with the same neighbours are a lot, of which no two are tied; the ends of a row of three would be one.
@@ -100,7 +100,7 @@ def all_pairings(masks):
 
 def any_pairing(masks):
     """Return points in order of lamps that hang together, None if there are none."""
-    lots = _lots(masks)
+    lots = lots_of(masks)
     if lots is not None:
         return put_pairing_in_order([(0, 1 + lots.index(mask)) for mask in masks])
     ways = all_pairings(masks)
@@ -109,6 +109,6 @@ def any_pairing(masks):
 
 def many_pairings(masks):
     """Return in how many ways points can be given to lamps that hang together."""
-    if _lots(masks) is not None:
+    if lots_of(masks) is not None:
         return 1 << max(0, len(masks) - 2)
     return len(all_pairings(masks))

@@ -31,7 +31,7 @@ def need_points(net, piece, points):
         raise InvalidPoints(points)
 
 
-def _pairing(piece, points):
+def pairing_of(piece, points):
     """Return points as the list of the tuples, lamp by lamp."""
     return [points[lamp] for lamp in piece]
 
@@ -56,7 +56,7 @@ def points_of(net, piece):
 def put_in_order(net, piece, points):
     """Return the points in order that come of points by calling the counts otherwise, lamps ascending."""
     need_points(net, piece, points)
-    return dict(zip(piece, put_pairing_in_order(_pairing(piece, points))))
+    return dict(zip(piece, put_pairing_in_order(pairing_of(piece, points))))
 
 
 def many_ways(net, piece):
@@ -100,7 +100,7 @@ def far(net, piece, points, one, other):
     need_points(net, piece, points)
     _need_point(points, one)
     _need_point(points, other)
-    return distances(_pairing(piece, points))[one][other]
+    return distances(pairing_of(piece, points))[one][other]
 
 
 def _are_marks(points, value):
@@ -164,13 +164,13 @@ def are_moves(net, piece, points, marks, wished, value):
 def fewest_moves(net, piece, points, marks, wished):
     """Return the least number of moves by which marks come to wished ones."""
     _need_two_marks(net, piece, points, marks, wished)
-    return fewest(distances(_pairing(piece, points)), marks, wished)
+    return fewest(distances(pairing_of(piece, points)), marks, wished)
 
 
 def shortest_moves(net, piece, points, marks, wished):
     """Return any list of as few lamps as can be by which marks are moved to wished ones."""
     _need_two_marks(net, piece, points, marks, wished)
-    return [piece[place] for place in shortest(_pairing(piece, points), marks, wished)]
+    return [piece[place] for place in shortest(pairing_of(piece, points), marks, wished)]
 
 
 def are_shortest_moves(net, piece, points, marks, wished, value):
@@ -206,7 +206,7 @@ def rise(net, piece, points, marks, wished, slope):
 def steepest(net, piece, points, marks, wished):
     """Return any slope with as great a rise as can be, points ascending."""
     _need_two_marks(net, piece, points, marks, wished)
-    return dict(enumerate(steepest_slope(_pairing(piece, points), marks, wished)))
+    return dict(enumerate(steepest_slope(pairing_of(piece, points), marks, wished)))
 
 
 def is_steepest(net, piece, points, marks, wished, value):

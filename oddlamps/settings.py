@@ -39,8 +39,8 @@ def _lit_near(net, lit, lamp):
     return [near for near in net.near[lamp] if near in lit]
 
 
-def _ready(net, lit, lamp):
-    """Tell whether a lamp is ready; a stuck one has neither wish, so it never is."""
+def is_ready_by(net, lit, lamp):
+    """Tell whether a lamp is ready by lit, a list or a dictionary; a stuck one has neither wish, so it never is."""
     return net.wish[lamp] == READY_WISHES[len(_lit_near(net, lit, lamp)) & 1]
 
 
@@ -48,19 +48,19 @@ def is_ready(net, setting, lamp):
     """Return whether a lamp is ready."""
     need_setting(net, setting)
     need_lamp(net, lamp)
-    return _ready(net, setting, lamp)
+    return is_ready_by(net, setting, lamp)
 
 
 def ready_lamps(net, setting):
     """Return the ascending list of the ready lamps."""
     need_setting(net, setting)
-    return [lamp for lamp in net.near if _ready(net, setting, lamp)]
+    return [lamp for lamp in net.near if is_ready_by(net, setting, lamp)]
 
 
 def switched(net, setting, lamp):
     """Return the setting behind the deed of a ready lamp."""
     need_setting(net, setting)
-    if not (is_lamp(net, lamp) and _ready(net, setting, lamp)):
+    if not (is_lamp(net, lamp) and is_ready_by(net, setting, lamp)):
         raise InvalidLamp(lamp)
     return _other_ones(setting, [lamp])
 
@@ -73,7 +73,7 @@ def _other_ones(setting, lamps):
 def still_pieces(net, setting):
     """Return the ascending list of the pieces of which no lamp is ready."""
     need_setting(net, setting)
-    return [piece for piece in pieces(net) if not any([_ready(net, setting, lamp) for lamp in piece])]
+    return [piece for piece in pieces(net) if not any([is_ready_by(net, setting, lamp) for lamp in piece])]
 
 
 def _settings_along(net, setting, lamps):
@@ -81,14 +81,35 @@ def _settings_along(net, setting, lamps):
     lit = {lamp: True for lamp in setting}
     along = [sorted(lit)]
     for lamp in lamps:
-        if not _ready(net, lit, lamp):
+        if not is_ready_by(net, lit, lamp):
             return None
-        if lamp in lit:
-            del lit[lamp]
-        else:
-            lit[lamp] = True
+        _switch(lit, lamp)
         along.append(sorted(lit))
     return along
+
+
+def _switch(lit, lamp):
+    """Light a lamp, or put it out, in a dictionary of those that are lit."""
+    if lamp in lit:
+        del lit[lamp]
+    else:
+        lit[lamp] = True
+
+
+def deeds_along(net, setting, lamps):
+    """Return the road of those lamps of a list that are ready, and switched, as their turn comes."""
+    lit = {lamp: True for lamp in setting}
+    road = []
+    for lamp in lamps:
+        if is_ready_by(net, lit, lamp):
+            _switch(lit, lamp)
+            road.append(lamp)
+    return road
+
+
+def with_piece_lit(setting, piece, lamps):
+    """Return the setting in which just these lamps of a piece are lit, all else as it was."""
+    return sorted([lamp for lamp in setting if lamp not in piece] + lamps)
 
 
 def is_road(net, setting, value):

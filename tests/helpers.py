@@ -169,3 +169,109 @@ def growing_tuples(many):
                  for pair in itertools.combinations(range(top + 2), 2)
                  if not (pair[1] == top + 1 and pair[0] != top)]
     return [tuples for tuples, _ in found]
+
+
+def own_sum(one, other):
+    """Return the ascending list of what is in just one of two lists."""
+    return sorted(set(one) ^ set(other))
+
+
+def own_meets(ties, one, other):
+    """Tell whether the tuples of neighbours, one of each list, are odd in number."""
+    both = set(ties) | {tie[::-1] for tie in ties}
+    return len([pair for pair in itertools.product(one, other) if pair in both]) % 2 == 1
+
+
+def own_free(net):
+    """Return the lamps of a net that are not stuck."""
+    return [lamp for lamp, wish in net.wishes().items() if wish != "stuck"]
+
+
+def own_net_pieces(net):
+    """Return the ascending list of the pieces of a net."""
+    return [list(piece) for piece in own_pieces(own_free(net), net.ties())]
+
+
+def own_turn(net, setting, lamp):
+    """Return the turn of a free lamp, by counting."""
+    stuck = [near for near in own_near(net.ties(), lamp) if net.wishes()[near] == "stuck" and near in setting]
+    return 1 if net.wishes()[lamp] == ("odd" if len(stuck) % 2 else "even") else 0
+
+
+def own_sign(net, piece, setting):
+    """Return the sign of a piece, by counting lit lamps, ties of two of them, and those with the turn 1."""
+    lit = [lamp for lamp in setting if lamp in piece]
+    ties = [tie for tie in net.ties() if tie[0] in lit and tie[1] in lit]
+    return (len(lit) + len(ties) + sum(own_turn(net, setting, lamp) for lamp in lit)) % 2
+
+
+def own_has_points(lamps, ties):
+    """Tell whether lamps have points, by trying all tuples lamp by lamp."""
+    near = {lamp: set(own_near(ties, lamp)) for lamp in lamps}
+    order = sorted(lamps, key=lambda lamp: -len(near[lamp]))
+    for at in range(1, len(order)):
+        order[at:] = sorted(order[at:], key=lambda lamp: -len(near[lamp] & set(order[:at])))
+    ways = [[]]
+    for at, lamp in enumerate(order):
+        further = []
+        for way in ways:
+            top = max([high for _, high in way], default=-1)
+            for pair in itertools.combinations(range(top + 3), 2):
+                if pair[1] <= top + 1 or pair == (top + 1, top + 2):
+                    if all((len(set(pair) & set(other)) == 1) == (order[place] in near[lamp])
+                           for place, other in enumerate(way)):
+                        further.append(way + [pair])
+        ways = further
+    return bool(ways)
+
+
+def own_reached(net, setting, among=None):
+    """Return for all settings to which deeds of some lamps lead the fewest deeds, by walking through ALL of them."""
+    wishes, near = net.wishes(), {lamp: set(own_near(net.ties(), lamp)) for lamp in net.lamps()}
+    among = own_free(net) if among is None else among
+    start = frozenset(setting)
+    found, edge = {start: 0}, [start]
+    for now in edge:
+        for lamp in among:
+            if len(near[lamp] & now) % 2 == (1 if wishes[lamp] == "odd" else 0) and now ^ {lamp} not in found:
+                found[now ^ {lamp}] = found[now] + 1
+                edge.append(now ^ {lamp})
+    return {tuple(sorted(now)): many for now, many in found.items()}
+
+
+def made_net(words, ties, wishes=""):
+    """Return a net of lamps with names of one letter, ties like "ab", wishes like "a" for even, "!a" for stuck."""
+    told = {lamp: "odd" for lamp in words}
+    for word in wishes.split():
+        told[word[-1]] = "stuck" if word[0] == "!" else "even"
+    return Net(sorted(words), sorted(tuple(sorted(tie)) for tie in ties.split()), told)
+
+
+COMB = "ab bc cd de cf"
+RING = "ab bc cd de ae"
+WHEEL = RING + " af bf cf df ef"
+
+
+def small_nets():
+    """Return nets of one and two pieces: paired, twisted, with cores, with stuck lamps."""
+    return [
+        made_net("ab", "ab"), made_net("a", ""), made_net("a", "", "a"), made_net("abc", "ab", "b"),
+        made_net("abcs", "ab bc bs", "!s"), made_net("abcms", "am bm cm bs ms", "b !s"),
+        made_net("abcde", "ab ac bc cd", "c"), made_net("abcdest", "ab cd de as cs dt st", "d !s !t"),
+        made_net("abcd", "ab bc cd ad", "a"), made_net("abcd", "ab bc cd ad ac bd", "a c"),
+        made_net("abcde", RING), made_net("abcde", RING, "a"), made_net("abcdes", RING + " as", "c !s"),
+        made_net("abcdef", "ab bc cd de ef"), made_net("abcdef", COMB), made_net("abcdef", WHEEL, "b f"),
+        made_net("abcdefs", COMB + " as fs", "d !s")]
+
+
+def grown_work(net, piece, many, dice):
+    """Return a work of so many lamps in its list, if there are any that can be put on or taken off."""
+    lamp = dice.choice(piece)
+    total, others = [lamp], []
+    while len(others) < many:
+        further = [other for other in piece if own_meets(net.ties(), [other], total)]
+        if not further:
+            break
+        others.append(dice.choice(further))
+        total = own_sum(total, others[-1:])
+    return (lamp, others), total

@@ -31,6 +31,42 @@ street = Net(["a", "b", "s"], [("a", "b"), ("b", "s")], {"a": "odd", "b": "even"
 # [[], ['b'], {'a': 'odd', 'b': 'odd', 's': 'stuck'}, ['a', 'b', 's'], ['b']]
 """
 
+LISTS = """
+from oddlamps.lists import idle_base, is_idle, is_idle_base, is_solved, is_why_unsolved, meets_oddly, rank, still_number, still_setting, sum_of, why_unsolved
+from oddlamps.nets import Net
+star = Net(["a", "b", "c", "m"], [("a", "m"), ("b", "m"), ("c", "m")], {"a": "odd", "b": "odd", "c": "odd", "m": "odd"})
+piece = ["a", "b", "c", "m"]
+[sum_of(["a", "b"], ["b", "c"]), meets_oddly(star, piece, ["a", "b"], ["m"]), meets_oddly(star, piece, ["a"], ["m"]), is_idle(star, piece, ["a", "b"]), rank(star, piece), len(idle_base(star, piece))]
+# [['a', 'c'], False, True, True, 2, 2]
+[is_idle_base(star, piece, [["a", "b"], ["a", "c"]]), is_idle_base(star, piece, [["a", "b"], ["a", "b"]]), is_solved(star, piece, ["a", "b", "c"], ["a", "b", "m"]), why_unsolved(star, piece, ["a", "b", "c"]), is_why_unsolved(star, piece, ["a"], ["a", "b"])]
+# [True, False, True, None, True]
+[still_number(star, piece, ["a"]), still_setting(star, piece, ["a"]) in ([], ["a", "b"], ["a", "c"], ["b", "c"])]
+# [4, True]
+"""
+
+SIGNS = """
+from oddlamps.nets import Net
+from oddlamps.signs import alike_stuck, sign, sign_with, signs, turn, turned_by, turns
+net = Net(["a", "b", "c", "m", "x", "y"], [("a", "m"), ("b", "m"), ("c", "m"), ("b", "x"), ("b", "y"), ("c", "y")], {"a": "odd", "b": "even", "c": "odd", "m": "odd", "x": "stuck", "y": "stuck"})
+[turns(net, []), turn(net, ["x"], "b"), turns(net, ["x", "y"]), turned_by(net, "y"), alike_stuck(net, ["a"], ["m"]), alike_stuck(net, [], ["x"])]
+# [{'a': 0, 'b': 1, 'c': 0, 'm': 0}, 0, {'a': 0, 'b': 1, 'c': 1, 'm': 0}, ['b', 'c'], True, False]
+[sign(net, ["a", "b", "c", "m"], ["b", "m"]), signs(net, ["a", "b"]), sign_with(net, ["a", "b", "c", "m"], ["b", "m"], ["a", "b"]), sign(net, ["a", "b", "c", "m"], ["a", "m"])]
+# [0, [1], 1, 1]
+"""
+
+WORKS = """
+from oddlamps.nets import Net
+from oddlamps.works import deeds_of, exchanged, is_work, setting_exchanged, worked, worked_list
+lamps = ["a", "b", "c", "d", "e", "f"]
+six = Net(lamps, [("a", "b"), ("b", "c"), ("c", "d"), ("d", "e"), ("c", "f")], {lamp: "odd" for lamp in lamps})
+[is_work(six, lamps, ("a", ["b"])), is_work(six, lamps, ("a", ["c"])), worked_list(six, lamps, ("a", ["b"])), worked_list(six, lamps, ("a", ["b", "b"]))]
+# [True, False, ['a', 'b'], ['a']]
+[worked(six, lamps, ["c"], ("a", ["b"])), deeds_of(six, lamps, ["c"], ("a", ["b"])), worked(six, lamps, ["a"], ("a", ["b"])), deeds_of(six, lamps, ["e"], ("a", ["b"]))]
+# [['a', 'b', 'c'], ['b', 'a'], ['b'], []]
+[exchanged(six, "a", "b").ties(), setting_exchanged(six, "a", "b", ["a"]), exchanged(exchanged(six, "a", "b"), "a", "b") == six]
+# [[('a', 'b'), ('a', 'c'), ('b', 'c'), ('c', 'd'), ('c', 'f'), ('d', 'e')], ['a', 'b'], True]
+"""
+
 POINTS = """
 from oddlamps.nets import Net
 from oddlamps.points import all_points, are_points, doubles, far, fewest_moves, is_paired, many_ways, moves, put_in_order, rise
@@ -46,6 +82,24 @@ row = Net(["a", "b", "c"], [("a", "b"), ("b", "c")], {"a": "odd", "b": "odd", "c
 # [[[(0, 1), (0, 2), (0, 1)], [(0, 1), (0, 2), (2, 3)]], 4, {'a': (0, 1), 'b': (0, 2), 'c': (2, 3)}]
 """
 
+CORES = """
+from oddlamps.cores import all_cores, core_of, in_all_cores, is_core, kind_of, left_of
+from oddlamps.nets import Net
+lamps = ["a", "b", "c", "d", "e", "f", "g"]
+seven = Net(lamps, [("a", "b"), ("b", "c"), ("c", "d"), ("c", "g"), ("d", "e"), ("e", "f")], {lamp: "odd" for lamp in lamps})
+[kind_of(seven, lamps), core_of(seven, lamps), is_core(seven, lamps, ["a", "b", "c", "d", "e", "f"]), left_of(seven, lamps, lamps[::-1])]
+# ['core', ['a', 'b', 'c', 'd', 'e', 'g'], False, ['a', 'b', 'c', 'd', 'e', 'g']]
+[all_cores(seven, lamps), in_all_cores(seven, lamps)]
+# [[['a', 'b', 'c', 'd', 'e', 'g']], ['a', 'b', 'c', 'd', 'e', 'g']]
+lamps = lamps + ["h"]
+tree = Net(lamps, [("a", "c"), ("a", "h"), ("b", "d"), ("b", "e"), ("c", "d"), ("c", "f"), ("d", "g")], {lamp: "odd" for lamp in lamps})
+left_of(tree, lamps, lamps)
+# ['a', 'b', 'c', 'd', 'f', 'h']
+row = Net(["a", "b", "c"], [("a", "b"), ("b", "c")], {"a": "odd", "b": "even", "c": "odd"})
+[kind_of(row, ["a", "b", "c"]), core_of(row, ["a", "b", "c"]), left_of(row, ["a", "b", "c"], ["b", "c", "a"]), in_all_cores(row, ["a", "b", "c"])]
+# ['paired', None, ['a', 'b', 'c'], []]
+"""
+
 
 class Examples(unittest.TestCase):
     def test_section_3(self):
@@ -54,8 +108,20 @@ class Examples(unittest.TestCase):
     def test_section_4(self):
         self.assertEqual(run_examples(self, SETTINGS), 4)
 
+    def test_section_5(self):
+        self.assertEqual(run_examples(self, LISTS), 3)
+
+    def test_section_6(self):
+        self.assertEqual(run_examples(self, SIGNS), 2)
+
+    def test_section_7(self):
+        self.assertEqual(run_examples(self, WORKS), 3)
+
     def test_section_8(self):
         self.assertEqual(run_examples(self, POINTS), 3)
+
+    def test_section_9(self):
+        self.assertEqual(run_examples(self, CORES), 4)
 
 
 if __name__ == "__main__":

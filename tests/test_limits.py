@@ -2,9 +2,9 @@
 
 import itertools
 import random
-import time
 import unittest
 
+from great import NAMES, great_tuples, net_of_tuples, timed
 from helpers import Net, frozen, own_near, own_pieces, own_ties, random_walk
 from oddlamps.nets import (
     cut_to, free_lamps, hang_together, is_piece, piece_of, pieces, renamed, side_by_side, stuck_lamps, without_stuck)
@@ -13,38 +13,6 @@ from oddlamps.points import (
     lamps_at, many_ways, moves, points_of, put_in_order, rise, shortest_moves, steepest)
 from oddlamps.settings import (
     cut_short, is_road, led, led_along, ready_lamps, setting_shifted, shifted, still_pieces)
-
-SECONDS = 2
-NAMES = ["".join(letters) for letters in itertools.product("abcdefghij", repeat=2)]
-
-
-def timed(case, function, *arguments):
-    """Return what a call returns, which has to come within a second or so."""
-    begun = time.perf_counter()
-    answer = function(*arguments)
-    case.assertLess(time.perf_counter() - begun, SECONDS, function.__name__)
-    return answer
-
-
-def great_tuples(many):
-    """Return lists of so many tuples whose points hang together: trees, rings, stars, lots, at random."""
-    dice = random.Random(many)
-    lists = [[(at, at + 1) for at in range(many)], [(at, at + 1) for at in range(many - 1)] + [(0, many - 1)],
-             [(0, at + 1) for at in range(many)], [(dice.randrange(at + 1), at + 1) for at in range(many)]]
-    for top in (4, 5, 8, 13, many // 2, many - 3):
-        tree = [(dice.randrange(at + 1), at + 1) for at in range(top - 1)]
-        lists.append(tree + [tuple(sorted(dice.sample(range(top), 2))) for _ in range(many - len(tree))])
-    for tuples in lists:
-        dice.shuffle(tuples)
-    return lists
-
-
-def net_of_tuples(tuples, stuck=0):
-    """Return a net whose lamps' ties are told by tuples, with stuck lamps tied to many."""
-    lamps, more = NAMES[:len(tuples)], ["s" + name for name in NAMES[:stuck]]
-    ties = own_ties(lamps, tuples) + [(lamp, other) for lamp in lamps[::2] for other in more]
-    wishes = {lamp: ("odd", "even")[at % 2] for at, lamp in enumerate(lamps)}
-    return Net(lamps + more, ties, {**wishes, **{lamp: "stuck" for lamp in more}}), lamps
 
 
 class Limits(unittest.TestCase):

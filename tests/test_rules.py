@@ -2,6 +2,7 @@
 
 import unittest
 
+import all_rows
 import rows
 from helpers import frozen, odd_net, spoil, thawed, turned_about
 from oddlamps.nets import Net
@@ -10,7 +11,7 @@ from oddlamps.points import are_points, put_in_order, rise
 
 class Rules(unittest.TestCase):
     def each_call(self):
-        for function, parameters in rows.ROWS:
+        for function, parameters in all_rows.ROWS:
             with self.subTest(function=function.__name__):
                 yield function, [parameter[0] for parameter in parameters], [parameter[1] for parameter in parameters]
 
@@ -57,6 +58,12 @@ class Rules(unittest.TestCase):
             self.assertEqual(frozen(answer), shape)
             self.assertEqual(frozen(function(*right)), shape)
 
+    def test_equal_nets_answer_the_same(self):
+        for function, _, right in self.each_call():
+            equal = [Net(thing.lamps()[::-1], thing.ties()[::-1], turned_about(thing.wishes()))
+                     if isinstance(thing, Net) else thing for thing in right]
+            self.assertEqual(frozen(function(*equal)), frozen(function(*right)))
+
     def test_the_order_of_keys_means_nothing(self):
         for function, _, right in self.each_call():
             self.assertEqual(frozen(function(*[turned_about(thing) for thing in right])), frozen(function(*right)))
@@ -69,10 +76,15 @@ class Rules(unittest.TestCase):
             "settings": "is_setting lit_neighbours is_ready ready_lamps switched still_pieces is_road led led_along "
                         "cut_short shifted setting_shifted",
             "points": "are_points is_paired points_of put_in_order many_ways all_points lamps_at doubles far moves "
-                      "moved are_moves fewest_moves shortest_moves are_shortest_moves rise steepest is_steepest"}
-        tested = sorted((function.__module__, function.__name__) for function, _, _ in self.each_call())
-        self.assertEqual(tested, sorted(("oddlamps." + place, name) for place in listed
-                                        for name in listed[place].split()))
+                      "moved are_moves fewest_moves shortest_moves are_shortest_moves rise steepest is_steepest",
+            "lists": "sum_of meets_oddly is_idle idle_base is_idle_base rank solved is_solved why_unsolved "
+                     "is_why_unsolved still_number still_setting planes are_planes",
+            "signs": "turn turns turned_by sign signs sign_with alike_stuck",
+            "works": "is_work worked_list worked deeds_of exchanged setting_exchanged",
+            "cores": "is_core core_of kind_of left_of all_cores in_all_cores"}
+        tested = {(function.__module__, function.__name__) for function, _, _ in self.each_call()}
+        self.assertEqual(sorted(tested), sorted(("oddlamps." + place, name) for place in listed
+                                                for name in listed[place].split()))
         for name in ("lamps", "ties", "wishes", "__eq__"):
             self.assertIn(name, vars(Net))
 

@@ -2,7 +2,7 @@
 
 import unittest
 
-import rows
+import all_rows
 from helpers import frozen
 from oddlamps.errors import InvalidLamps, InvalidNet, Refused, Unlike
 from oddlamps.nets import Net, side_by_side, without_stuck
@@ -12,7 +12,7 @@ def wrong_ones(parameter):
     """Return wrong arguments for a parameter: those of its row, and such as nothing wants."""
     name, right, _, wrong = parameter
     known = [frozen(right)] + [frozen(thing) for thing in wrong]
-    return wrong + [thing for thing in rows.NOTHINGS if frozen(thing) not in known]
+    return wrong + [thing for thing in all_rows.NOTHINGS if frozen(thing) not in known]
 
 
 class Wrong(unittest.TestCase):
@@ -31,7 +31,7 @@ class Wrong(unittest.TestCase):
         self.assertIs(held.exception.value, value)
 
     def test_each_wrong_argument_of_each_function(self):
-        for function, parameters in rows.ROWS:
+        for function, parameters in all_rows.ROWS:
             names = [parameter[0] for parameter in parameters]
             right = [parameter[1] for parameter in parameters]
             for at, parameter in enumerate(parameters):
@@ -44,7 +44,7 @@ class Wrong(unittest.TestCase):
                         self.refuses_by_name(function, names, arguments, parameter[2], wrong)
 
     def test_the_first_wrong_argument_is_told(self):
-        for function, parameters in rows.ROWS:
+        for function, parameters in all_rows.ROWS:
             right = [parameter[1] for parameter in parameters]
             for at, parameter in enumerate(parameters):
                 if parameter[2] is None:
@@ -56,7 +56,7 @@ class Wrong(unittest.TestCase):
 
     def test_judges_tell_false_of_anything_else(self):
         judged = 0
-        for function, parameters in rows.ROWS:
+        for function, parameters in all_rows.ROWS:
             right = [parameter[1] for parameter in parameters]
             if parameters[-1][2] is None:
                 judged += 1
@@ -65,13 +65,13 @@ class Wrong(unittest.TestCase):
                     before = frozen(wrong)
                     self.assertIs(function(*right[:-1], wrong), False, (function, wrong))
                     self.assertEqual(frozen(wrong), before)
-        self.assertEqual(judged, 7)
+        self.assertEqual(judged, 14)
 
     def test_judges_raise_for_other_arguments_whatever_they_judge(self):
-        for function, parameters in rows.ROWS:
+        for function, parameters in all_rows.ROWS:
             right = [parameter[1] for parameter in parameters]
             if parameters[-1][2] is None:
-                for thing in rows.NOTHINGS + [right[-1]]:
+                for thing in all_rows.NOTHINGS + [right[-1]]:
                     self.refuses(function, [None] + right[1:-1] + [thing], InvalidNet, None)
 
     def test_nets_side_by_side_share_no_lamp(self):

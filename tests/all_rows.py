@@ -1,0 +1,7 @@
+"""The rows of all functions, and what nothing wants."""
+
+import rows
+import rows_lists
+
+ROWS = rows.ROWS + rows_lists.ROWS
+NOTHINGS = rows.NOTHINGS
