@@ -5,7 +5,7 @@ from itertools import combinations
 from oddlamps.bits import bits_of, lamps_of, mask_of, near_masks
 from oddlamps.coring import is_core_lot, left_lot
 from oddlamps.errors import InvalidLamps
-from oddlamps.kinds import are_unlike, are_words
+from oddlamps.kinds import are_words
 from oddlamps.nets import is_list_of, need_piece
 from oddlamps.pairing import any_pairing
 
@@ -30,7 +30,7 @@ def kind_of(net, piece):
 def left_of(net, piece, order):
     """Return the ascending list of the lamps that stay if those that can be left out are, in an order."""
     need_piece(net, piece)
-    if not (are_words(order) and are_unlike(order) and sorted(order) == piece):
+    if not (are_words(order) and sorted(order) == piece):
         raise InvalidLamps(order)
     return lamps_of(piece, left_lot(near_masks(net, piece), [piece.index(lamp) for lamp in order]))
 

@@ -71,6 +71,4 @@ def sign_with(net, piece, setting, switched):
 
 def alike_stuck(net, one, other):
     """Return whether two settings give all free lamps the same turns."""
-    need_setting(net, one)
-    need_setting(net, other)
     return turns(net, one) == turns(net, other)

@@ -11,7 +11,7 @@ def _worked_lot(net, piece, value):
     if not (isinstance(value, tuple) and len(value) == 2 and isinstance(value[1], list)):
         return None
     lamp, others = value
-    if not all([isinstance(one, str) and one in piece for one in [lamp] + others]):
+    if not all([one in piece for one in [lamp] + others]):
         return None
     places = {one: place for place, one in enumerate(piece)}
     masks = near_masks(net, piece)

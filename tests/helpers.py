@@ -137,15 +137,16 @@ def random_net(seed, many=8, share=0.3, stuck=0.3):
 
 def random_walk(net, setting, many, dice):
     """Return a road of at most so many lamps that are chosen at random, and the setting behind it."""
-    wishes, ties, road, now = net.wishes(), net.ties(), [], list(setting)
+    wishes, road, now = net.wishes(), [], set(setting)
+    near = {lamp: set(own_near(net.ties(), lamp)) for lamp in wishes}
     for _ in range(many):
-        ready = [lamp for lamp in net.lamps() if own_ready(wishes, ties, now, lamp)]
+        ready = [lamp for lamp in wishes if wishes[lamp] == ("odd" if len(near[lamp] & now) % 2 else "even")]
         if not ready:
             break
         lamp = dice.choice(ready)
         road.append(lamp)
-        now = sorted(set(now) ^ {lamp})
-    return road, now
+        now ^= {lamp}
+    return road, sorted(now)
 
 
 def own_ties(lamps, tuples):
@@ -174,6 +175,17 @@ def growing_tuples(many):
 def own_sum(one, other):
     """Return the ascending list of what is in just one of two lists."""
     return sorted(set(one) ^ set(other))
+
+
+def own_sums(lists):
+    """Return the sums of ALL lots of some lists, ascending, each as often as it comes up."""
+    sums = []
+    for lot in all_lots(range(len(lists))):
+        total = []
+        for at in lot:
+            total = own_sum(total, lists[at])
+        sums.append(total)
+    return sorted(sums)
 
 
 def own_meets(ties, one, other):

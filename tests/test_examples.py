@@ -100,6 +100,73 @@ row = Net(["a", "b", "c"], [("a", "b"), ("b", "c")], {"a": "odd", "b": "even", "
 # ['paired', None, ['a', 'b', 'c'], []]
 """
 
+TEMPERS = """
+from oddlamps.nets import Net
+from oddlamps.tempers import are_heights, even_points, heights, is_odd_round, is_round, is_round_road, is_round_stock, marked_by, odd_round, round_road, round_stock, temper
+star = Net(["a", "b", "c", "m"], [("a", "m"), ("b", "m"), ("c", "m")], {"a": "odd", "b": "odd", "c": "odd", "m": "odd"})
+whole, points = ["a", "b", "c", "m"], {"a": (0, 2), "b": (0, 2), "c": (1, 3), "m": (0, 1)}
+[is_round(star, whole, points, ["a", "b"]), is_round(star, whole, points, ["a", "c"]), round_stock(star, whole, points), temper(star, whole, [])]
+# [True, False, [['a', 'b']], 'even']
+flat = heights(star, whole, points, [])
+[flat, are_heights(star, whole, points, [], {0: 1, 1: 1, 2: 1, 3: 1}), marked_by(star, whole, points, ["a"], flat), marked_by(star, whole, points, ["a", "b"], flat)]
+# [{0: 0, 1: 0, 2: 0, 3: 0}, True, [0, 2], []]
+[round_road(star, whole, points, [], ["a", "b"]), is_round_road(star, whole, points, ["m"], ["a", "b"], ["a", "b"]), odd_round(star, whole, points, ["m"])]
+# [None, True, None]
+row, doubled, spread = Net(["a", "b", "m"], [("a", "m"), ("b", "m")], {"a": "odd", "b": "even", "m": "odd"}), {"a": (0, 2), "b": (0, 2), "m": (0, 1)}, {"a": (0, 2), "b": (1, 3), "m": (0, 1)}
+[heights(row, ["a", "b", "m"], doubled, []), is_odd_round(row, ["a", "b", "m"], doubled, [], ["a", "b"]), heights(row, ["a", "b", "m"], spread, []), temper(row, ["a", "b", "m"], [])]
+# [None, True, {0: 0, 1: 0, 2: 0, 3: 1}, 'even']
+five = ["a", "b", "c", "d", "e"]
+ring = Net(five, [("a", "b"), ("a", "e"), ("b", "c"), ("c", "d"), ("d", "e")], {"a": "even", "b": "odd", "c": "odd", "d": "odd", "e": "odd"})
+[temper(ring, five, []), even_points(ring, five, []), is_round_stock(ring, five, {"a": (0, 1), "b": (1, 2), "c": (2, 3), "d": (3, 4), "e": (0, 4)}, [five])]
+# ['twisted', None, True]
+"""
+
+JOINING = """
+from oddlamps.joining import helping_lamps, is_nearest_joined, is_why_apart, joined, joined_pieces, joined_with, least_unlike, nearest_joined, parting_pieces, why_apart
+from oddlamps.nets import Net
+lamps = ["a", "b", "c", "d", "e", "f"]
+six = Net(lamps, [("a", "b"), ("b", "c"), ("c", "d"), ("c", "f"), ("d", "e")], {lamp: "odd" for lamp in lamps})
+[joined(six, ["a"], ["c"]), joined(six, ["a"], ["a", "c"]), joined(six, ["a", "c"], ["b", "f"]), joined(six, [], ["a"])]
+# [True, False, True, False]
+[why_apart(six, ["a"], ["c"]), is_why_apart(six, ["a"], ["a", "c"], ("sign", lamps)), is_why_apart(six, [], ["a", "c"], ("sign", lamps)), is_why_apart(six, [], ["a", "c"], ("still", lamps))]
+# [None, True, False, True]
+[least_unlike(six, ["a"], ["a", "c"]), is_nearest_joined(six, ["a"], ["a", "c"], ["c"]), is_nearest_joined(six, ["a"], ["a", "c"], ["a", "b"]), parting_pieces(six, ["a"], ["a", "c"]) == [lamps]]
+# [1, True, False, True]
+pair = Net(["a", "b"], [("a", "b")], {"a": "odd", "b": "odd"})
+[nearest_joined(pair, [], ["b"]), is_why_apart(pair, [], ["a"], ("marks", ["a", "b"], {"a": (0, 1), "b": (1, 2)}, {0: 0, 1: 0, 2: 0})), joined_pieces(pair, ["a"], ["b"])]
+# [[], True, [['a', 'b']]]
+row = Net(["a", "b", "c", "s"], [("a", "b"), ("b", "c"), ("b", "s")], {"a": "odd", "b": "odd", "c": "odd", "s": "stuck"})
+[joined(row, [], ["b"]), joined(row, ["s"], ["b", "s"]), helping_lamps(row, [], ["b"]), joined_with(row, ["a"], ["c"], "s"), is_why_apart(row, ["s"], ["b"], ("stuck", "s"))]
+# [False, True, ['s'], False, True]
+"""
+
+WAYS = """
+from oddlamps.nets import Net
+from oddlamps.ways import is_piece_way, is_way, piece_bound, piece_way, way_between, way_bound
+lamps = ["a", "b", "c", "d", "e", "f"]
+six = Net(lamps, [("a", "b"), ("b", "c"), ("c", "d"), ("d", "e"), ("c", "f")], {lamp: "odd" for lamp in lamps})
+[piece_bound(six, lamps), way_bound(six), way_between(six, [], ["a"]), is_way(six, ["a"], ["a"], []), is_way(six, ["a"], ["b"], ["b", "a"])]
+# [16, 16, None, True, True]
+pair = Net(["a", "b", "s"], [("a", "b"), ("b", "s")], {"a": "odd", "b": "odd", "s": "stuck"})
+[piece_bound(pair, ["a", "b"]), is_piece_way(pair, ["a", "b"], ["a"], ["a", "b"], piece_way(pair, ["a", "b"], ["a"], ["a", "b"])), way_between(pair, ["a"], ["a", "s"])]
+# [12, True, None]
+is_piece_way(pair, ["a", "b"], ["s"], ["a", "b", "s"], ["b", "a"])
+# True
+"""
+
+ROADS = """
+from oddlamps.nets import Net
+from oddlamps.roads import by_deeds, class_of, farthest, fewest_deeds, first_deeds, is_farthest, is_shortest_road, many_shortest, width
+lamps = ["a", "b", "c", "d", "e", "f"]
+six = Net(lamps, [("a", "b"), ("b", "c"), ("c", "d"), ("c", "f"), ("d", "e")], dict([(lamp, "odd") for lamp in lamps]))
+[fewest_deeds(six, ["a"], ["a", "c", "e"]), many_shortest(six, ["a"], ["a", "c", "e"]), fewest_deeds(six, [], ["a"]), many_shortest(six, [], ["a"]), farthest(six, ["a"])]
+# [10, 12, None, 0, ['a', 'c', 'e']]
+[by_deeds(six, ["a"]), by_deeds(six, ["a", "c"]), is_farthest(six, ["a", "c"], ["d", "f"]), class_of(six, [])]
+# [[1, 1, 2, 3, 5, 6, 8, 5, 3, 1, 1], [1, 2, 4, 4, 4, 2, 2, 2, 2, 1, 1, 1, 1], True, [[]]]
+[many_shortest(six, ["c"], ["b", "c", "d"]), first_deeds(six, ["c"], ["b", "c", "d"]), is_shortest_road(six, ["c"], ["b", "c", "d"], ["d", "b"]), is_shortest_road(six, ["c"], ["c"], [])]
+# [2, ['b', 'd'], True, True]
+"""
+
 
 class Examples(unittest.TestCase):
     def test_section_3(self):
@@ -122,6 +189,18 @@ class Examples(unittest.TestCase):
 
     def test_section_9(self):
         self.assertEqual(run_examples(self, CORES), 4)
+
+    def test_section_10(self):
+        self.assertEqual(run_examples(self, TEMPERS), 5)
+
+    def test_section_11(self):
+        self.assertEqual(run_examples(self, JOINING), 5)
+
+    def test_section_12(self):
+        self.assertEqual(run_examples(self, WAYS), 3)
+
+    def test_section_13(self):
+        self.assertEqual(run_examples(self, ROADS), 3)
 
 
 if __name__ == "__main__":

@@ -5,7 +5,8 @@ import random
 import unittest
 
 from helpers import (
-    all_lots, frozen, made_net, own_meets, own_near, own_net_pieces, own_ready, own_sum, random_net, small_nets)
+    all_lots, frozen, made_net, own_meets, own_near, own_net_pieces, own_ready, own_sum, own_sums, random_net,
+    small_nets)
 from oddlamps.errors import InvalidLamps
 from oddlamps.lists import (
     are_planes, idle_base, is_idle, is_idle_base, is_solved, is_why_unsolved, meets_oddly, planes, rank, solved,
@@ -29,17 +30,6 @@ def own_odd(net, piece, some):
 
 def own_idle_lists(net, piece):
     return [some for some in all_lots(piece) if not own_odd(net, piece, some)]
-
-
-def own_sums(lists):
-    """Return the sums of ALL lots of some lists, ascending, each as often as it comes up."""
-    sums = []
-    for lot in all_lots(range(len(lists))):
-        total = []
-        for at in lot:
-            total = own_sum(total, lists[at])
-        sums.append(total)
-    return sorted(sums)
 
 
 def own_are_planes(net, pairs, many):

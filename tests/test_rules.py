@@ -81,7 +81,14 @@ class Rules(unittest.TestCase):
                      "is_why_unsolved still_number still_setting planes are_planes",
             "signs": "turn turns turned_by sign signs sign_with alike_stuck",
             "works": "is_work worked_list worked deeds_of exchanged setting_exchanged",
-            "cores": "is_core core_of kind_of left_of all_cores in_all_cores"}
+            "cores": "is_core core_of kind_of left_of all_cores in_all_cores",
+            "tempers": "is_round round_stock is_round_stock odd_round is_odd_round temper even_points heights "
+                       "are_heights marked_by round_road is_round_road",
+            "joining": "joined joined_pieces parting_pieces why_apart is_why_apart nearest_joined is_nearest_joined "
+                       "least_unlike joined_with helping_lamps",
+            "ways": "piece_bound way_bound piece_way is_piece_way way_between is_way",
+            "roads": "fewest_deeds shortest_road is_shortest_road many_shortest first_deeds class_of by_deeds farthest "
+                     "is_farthest width"}
         tested = {(function.__module__, function.__name__) for function, _, _ in self.each_call()}
         self.assertEqual(sorted(tested), sorted(("oddlamps." + place, name) for place in listed
                                                 for name in listed[place].split()))

@@ -4,7 +4,7 @@ import unittest
 
 import all_rows
 from helpers import frozen
-from oddlamps.errors import InvalidLamps, InvalidNet, Refused, Unlike
+from oddlamps.errors import InvalidLamps, InvalidNet, InvalidSetting, Refused, Unlike
 from oddlamps.nets import Net, side_by_side, without_stuck
 
 
@@ -65,7 +65,7 @@ class Wrong(unittest.TestCase):
                     before = frozen(wrong)
                     self.assertIs(function(*right[:-1], wrong), False, (function, wrong))
                     self.assertEqual(frozen(wrong), before)
-        self.assertEqual(judged, 14)
+        self.assertEqual(judged, 25)
 
     def test_judges_raise_for_other_arguments_whatever_they_judge(self):
         for function, parameters in all_rows.ROWS:
@@ -73,6 +73,22 @@ class Wrong(unittest.TestCase):
             if parameters[-1][2] is None:
                 for thing in all_rows.NOTHINGS + [right[-1]]:
                     self.refuses(function, [None] + right[1:-1] + [thing], InvalidNet, None)
+
+    def test_settings_of_nets_without_free_or_without_stuck_lamps(self):
+        """What is asked piece by piece, or stuck lamp by stuck lamp, asks nothing there, and yet refuses."""
+        nets = [Net(["a", "b"], [("a", "b")], {"a": wish, "b": wish}) for wish in ("stuck", "odd")]
+        refused = 0
+        for function, parameters in all_rows.ROWS:
+            names = [name for name, _, error, _ in parameters if error is InvalidSetting]
+            if names and [name for name, _, _, _ in parameters] == ["net"] + names:
+                for net in nets:
+                    function(net, *[[] for _ in names])
+                    for at in range(len(names)):
+                        for wrong in (["s"], ["b", "a"], ("a",), None, ["a", "a"], "a"):
+                            arguments = [net] + [["a"]] * at + [wrong] + [None] * (len(names) - at - 1)
+                            self.refuses(function, arguments, InvalidSetting, wrong)
+                            refused += 1
+        self.assertGreater(refused, 300)
 
     def test_nets_side_by_side_share_no_lamp(self):
         one, other = Net(["a", "b"], [], {"a": "odd", "b": "odd"}), Net(["b"], [], {"b": "odd"})
