@@ -9,7 +9,7 @@ from oddlamps.nets import Net
 from oddlamps.signs import alike_stuck, sign, sign_with, signs, turn, turned_by, turns
 from oddlamps.works import (
     deeds_of, exchanged, is_work, setting_exchanged, worked, worked_list)
-from rows import NET, WRONG_LAMPS, WRONG_NETS, WRONG_RISING, lamp, net, piece, setting
+from rows import NET, WRONG_LAMPS, WRONG_NETS, WRONG_RISING, net, piece, setting
 
 # Lists of lamps that are in order, but not of the piece a, b, c, m.
 WRONG_LISTS = WRONG_RISING + [["s"], ["a", "s"], ["x", "y"], ["a", "b", "c", "m", "s"], ["m", "a"], ["a", "c", "b"],
