@@ -1,5 +1,6 @@
 """What several tests use: small nets, searches of their own, and copies that tell True from 1."""
 
+import functools
 import itertools
 import random
 
@@ -109,6 +110,7 @@ def hanging_graphs(many):
     return [ties for ties in all_graphs(many) if len(own_pieces(LETTERS[:many], ties)) == 1]
 
 
+@functools.lru_cache(maxsize=None)
 def hanging_shapes(many):
     """Return one of each lot of hanging graphs that differ in the names of the lamps alone."""
     lamps, seen, shapes = LETTERS[:many], set(), []

@@ -1,16 +1,19 @@
 """Points [58] to [60]: bounds, ways in a piece and in a net, against walks through ALL settings."""
 
+import functools
+import operator
 import random
 import unittest
 
 from great import great_pieces, great_tuples, net_of_tuples, random_great, timed
 from helpers import (
-    COMB, RING, WHEEL, all_lots, frozen, made_net, own_free, own_has_points, own_near, own_net_pieces, own_reached,
-    own_sign, own_sum, random_net, random_walk, small_nets)
+    COMB, RING, WHEEL, all_lots, frozen, hanging_shapes, made_net, own_free, own_has_points, own_near, own_net_pieces,
+    own_reached, own_sign, own_sum, random_net, random_walk, small_nets)
 from oddlamps.cores import kind_of
 from oddlamps.errors import InvalidPiece, InvalidSetting, Unlike
 from oddlamps.settings import is_road, led
 from oddlamps.tempers import temper
+from oddlamps.walks import Walk, shortest_roads
 from oddlamps.ways import is_piece_way, is_way, piece_bound, piece_way, way_between, way_bound
 
 NETS = small_nets() + [random_net(seed, 6, 0.4, 0.2) for seed in range(10)]
@@ -162,6 +165,29 @@ class Ways(unittest.TestCase):
                 with self.assertRaises(InvalidSetting) as held:
                     function(net, ["a", "b"], one, ("s",), *more)
                 self.assertEqual(held.exception.value, ("s",))
+
+
+class CoreLeads(unittest.TestCase):
+    """What the bound with a core rests on: how many deeds of a core's own lamps are enough, whatever the core."""
+
+    def test_all_shapes_of_cores(self):
+        cores, longest, widest = 0, 0, 0
+        for ties in hanging_shapes(6):
+            near = [sum(1 << "abcdef".index(other) for other in own_near(ties, lamp)) for lamp in "abcdef"]
+            # Which lists meet oddly which others, the places of lists being bits of their numbers.
+            meets = [functools.reduce(operator.xor, [near[at] for at in range(6) if some >> at & 1], 0)
+                     for some in range(64)]
+            if not own_has_points(list("abcdef"), ties):
+                cores += 1
+                for start in range(1, 64):
+                    found = [(lit, len(road)) for lit, road in shortest_roads(Walk(near, 0, start), range(6)).items()]
+                    widest = max(widest, found[-1][1])
+                    for row in range(1, 64):
+                        for up in (0, 1):
+                            led_there = [many for lit, many in found
+                                         if (meets[row] & lit).bit_count() % 2 == up and lit != row]
+                            longest = max(longest, led_there[0])
+        self.assertEqual([cores, longest, widest], [32, 8, 16])
 
 
 class GreatWays(unittest.TestCase):
