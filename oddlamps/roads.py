@@ -10,6 +10,7 @@ from oddlamps.joining import joined, need_settings
 from oddlamps.nets import pieces
 from oddlamps.settings import is_road, is_setting, led, need_setting, with_piece_lit
 from oddlamps.signs import turn_bits
+from oddlamps.tallies import spread
 from oddlamps.walks import Walk, shortest_roads
 
 
@@ -18,7 +19,7 @@ def _walk_in(net, piece, setting):
     return Walk(near_masks(net, piece), turn_bits(net, piece, setting), bits_of(piece, setting))
 
 
-def _roads_in(net, piece, setting):
+def roads_in(net, piece, setting):
     """Return for all settings of a piece's lamps that a setting can be led to, nearest first, a shortest road."""
     return shortest_roads(_walk_in(net, piece, setting), list(range(len(piece))))
 
@@ -33,7 +34,7 @@ def shortest_road(net, one, other):
     """Return any road as short as can be from one setting to the other, None if they are not joined."""
     if not joined(net, one, other):
         return None
-    roads = [(piece, _roads_in(net, piece, one)[bits_of(piece, other)]) for piece in pieces(net)]
+    roads = [(piece, roads_in(net, piece, one)[bits_of(piece, other)]) for piece in pieces(net)]
     return [piece[place] for piece, road in roads for place in road]
 
 
@@ -61,7 +62,7 @@ def many_shortest(net, one, other):
 
 def _deeds_and_ways(net, piece, one, other):
     """Return of how many deeds a piece's shortest roads between joined settings are, and how many there are."""
-    roads = _roads_in(net, piece, one)
+    roads = roads_in(net, piece, one)
     walk = _walk_in(net, piece, one)
     ways = {walk.lit: 1}
     for lit in list(roads)[1:]:
@@ -82,7 +83,7 @@ def first_deeds(net, one, other):
         return []
     first = []
     for piece in pieces(net):
-        near = _deeds_nearer(_walk_in(net, piece, other), _roads_in(net, piece, other), bits_of(piece, one))
+        near = _deeds_nearer(_walk_in(net, piece, other), roads_in(net, piece, other), bits_of(piece, one))
         first.extend([piece[place] for place in near])
     return sorted(first)
 
@@ -92,7 +93,7 @@ def class_of(net, setting):
     need_setting(net, setting)
     found = [list(setting)]
     for piece in pieces(net):
-        lots = [lamps_of(piece, lit) for lit in _roads_in(net, piece, setting)]
+        lots = [lamps_of(piece, lit) for lit in roads_in(net, piece, setting)]
         found = [with_piece_lit(now, piece, lot) for now in found for lot in lots]
     return sorted(found)
 
@@ -102,17 +103,8 @@ def by_deeds(net, setting):
     need_setting(net, setting)
     numbers = [1]
     for piece in pieces(net):
-        deeds = [len(road) for road in _roads_in(net, piece, setting).values()]
-        numbers = _spread(numbers, [deeds.count(many) for many in range(deeds[-1] + 1)])
-    return numbers
-
-
-def _spread(one, other):
-    """Return the numbers of pairs of which one thing is of the ones, by deeds, one of the others."""
-    numbers = [0] * (len(one) + len(other) - 1)
-    for deeds, many in enumerate(one):
-        for more, ways in enumerate(other):
-            numbers[deeds + more] += many * ways
+        deeds = [len(road) for road in roads_in(net, piece, setting).values()]
+        numbers = spread(numbers, [deeds.count(many) for many in range(deeds[-1] + 1)])
     return numbers
 
 
@@ -121,7 +113,7 @@ def farthest(net, setting):
     need_setting(net, setting)
     far = list(setting)
     for piece in pieces(net):
-        far = with_piece_lit(far, piece, lamps_of(piece, list(_roads_in(net, piece, setting))[-1]))
+        far = with_piece_lit(far, piece, lamps_of(piece, list(roads_in(net, piece, setting))[-1]))
     return far
 
 
@@ -141,7 +133,7 @@ def _width_in(net, piece, setting):
     """Return the greatest number of fewest deeds between two settings of a piece's class."""
     walk = _walk_in(net, piece, setting)
     widest = 0
-    for lit in _roads_in(net, piece, setting):
+    for lit in roads_in(net, piece, setting):
         roads = shortest_roads(Walk(walk.masks, turn_bits(net, piece, setting), lit), list(range(len(piece))))
         widest = max(widest, len(list(roads.values())[-1]))
     return widest

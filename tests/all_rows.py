@@ -3,6 +3,7 @@
 import rows
 import rows_joining
 import rows_lists
+import rows_seen
 
-ROWS = rows.ROWS + rows_lists.ROWS + rows_joining.ROWS
+ROWS = rows.ROWS + rows_lists.ROWS + rows_joining.ROWS + rows_seen.ROWS
 NOTHINGS = rows.NOTHINGS

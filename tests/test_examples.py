@@ -167,6 +167,62 @@ six = Net(lamps, [("a", "b"), ("b", "c"), ("c", "d"), ("c", "f"), ("d", "e")], d
 # [2, ['b', 'd'], True, True]
 """
 
+NUMBERS = """
+from oddlamps.nets import Net
+from oddlamps.numbers import by_planes, by_sign, class_number, class_size, classes_by_size, still_by_sign, whole_number, whole_size
+star = Net(["a", "b", "c", "m"], [("a", "m"), ("b", "m"), ("c", "m")], {"a": "odd", "b": "odd", "c": "odd", "m": "odd"})
+piece = ["a", "b", "c", "m"]
+[by_sign(star, piece, []), by_planes(star, piece, [], [(["a"], ["m"])], [["a", "b"], ["a", "c"]]), class_size(star, piece, ["a"]), class_size(star, piece, []), class_number(star, piece, []), classes_by_size(star, piece, [])]
+# [(4, 12), (4, 12), 12, 1, 5, [(1, 4), (12, 1)]]
+six = Net(list("abcdef"), [("a", "b"), ("b", "c"), ("c", "d"), ("c", "f"), ("d", "e")], dict([(lamp, "odd") for lamp in "abcdef"]))
+[by_sign(six, list("abcdef"), []), class_size(six, list("abcdef"), ["a"]), class_size(six, list("abcdef"), ["a", "c"]), whole_number(six, ["a"]), still_by_sign(star, piece, [])]
+# [(28, 36), 36, 27, 3, (4, 0)]
+"""
+
+SEEN = """
+from oddlamps.nets import Net
+from oddlamps.seen import can_show, is_why_dark, lit_numbers, many_shown
+pair = Net(["a", "b"], [("a", "b")], {"a": "odd", "b": "odd"})
+[can_show(pair, ["a"], (["a", "b"], [])), can_show(pair, ["a"], ([], ["a", "b"])), many_shown(pair, ["a"], ([], [])), lit_numbers(pair, ["a"])]
+# [True, False, 3, [1, 2]]
+is_why_dark(pair, [], (["a"], []), ("still", ["a", "b"]))
+# True
+six = Net(list("abcdef"), [("a", "b"), ("b", "c"), ("c", "d"), ("c", "f"), ("d", "e")], dict([(lamp, "odd") for lamp in "abcdef"]))
+[many_shown(six, ["a"], ([], [])), many_shown(six, ["a", "c"], ([], [])), can_show(six, ["a"], (["a"], ["b", "c", "d", "e", "f"])), can_show(six, ["a", "c"], (["a"], ["b", "c", "d", "e", "f"]))]
+# [36, 27, True, False]
+"""
+
+FAMILIES = """
+from oddlamps.families import comb_net, fork, forms, is_fork, is_in_order, is_tree, kind_by_forms, ring_net, row_net, shorn, star_net, wheel_net
+odd = {lamp: "odd" for lamp in "abcdef"}
+row = row_net(["c", "a", "b"], {lamp: "odd" for lamp in "abc"})
+ring = ring_net(["a", "b", "c", "d"], {lamp: "odd" for lamp in "abcd"})
+comb = comb_net(list("abcdef"), odd)
+[row.ties(), forms(row, ["a", "b", "c"]), forms(ring, ["a", "b", "c", "d"]), is_in_order(ring, ["a", "b", "c", "d"], "ring", ["b", "a", "d", "c"])]
+# [[('a', 'b'), ('a', 'c')], ['row', 'star'], ['ladder', 'ring'], True]
+[comb.ties(), forms(comb, list("abcdef")), kind_by_forms(comb, list("abcdef")), is_tree(comb, list("abcdef")), fork(comb, list("abcdef"))]
+# [[('a', 'b'), ('a', 'd'), ('b', 'c'), ('b', 'e'), ('c', 'f')], ['comb'], 'core', True, ('b', 'a', 'c', 'e')]
+star = star_net(["m", "a", "b", "c"], {lamp: "even" for lamp in "abcm"})
+[forms(star, ["a", "b", "c", "m"]), fork(star, ["a", "b", "c", "m"]), shorn(star, ["a", "b", "c", "m"]), is_tree(ring, ["a", "b", "c", "d"])]
+# [['star'], None, ['a', 'm'], False]
+wheel = wheel_net(list("habcde"), {lamp: "odd" for lamp in "abcdeh"})
+[forms(row_net(["z"], {"z": "odd"}), ["z"]), forms(wheel, list("abcdeh")), kind_by_forms(wheel, list("abcdeh")), is_fork(comb, list("abcdef"), ("b", "a", "e", "c"))]
+# [['full', 'row', 'star'], ['wheel'], 'core', False]
+"""
+
+CHANGES = """
+from oddlamps.changes import changed, changed_by, keeps_paired, kinds_changed, linking_ties, needed_ties, parting_lots, setting_along, tie_sets_number
+from oddlamps.nets import Net
+four = Net(list("abcd"), [("a", "b"), ("b", "c"), ("c", "d")], {lamp: "odd" for lamp in "abcd"})
+five = changed(four, ("put", "e", "odd", ["d"]))
+[five.ties()[-1], setting_along(four, [("put", "e", "odd", ["d"]), ("take", "a")], ["a", "b"]), tie_sets_number(four, list("abcd")), tie_sets_number(five, list("abcde")), keeps_paired(five, list("abcde"), ["c"])]
+# [('d', 'e'), ['b'], 15, 21, False]
+[kinds_changed(five, [("put", "f", "even", ["c"])]), kinds_changed(five, [("tie", "a", "e")]), needed_ties(four, ["a"], ["c"]), linking_ties(five, ["a"], ["a", "c", "e"])]
+# [(['a', 'b', 'c', 'd', 'e'], []), ([], []), [('a', 'b'), ('b', 'c')], [('a', 'd'), ('b', 'e')]]
+[parting_lots(four, [("untie", "b", "c"), ("tie", "a", "d"), ("wish", "c", "even")], ["a"], ["d"]), changed_by(four, [("wish", "a", "stuck")]).wishes()["a"]]
+# [[[0], [2]], 'stuck']
+"""
+
 
 class Examples(unittest.TestCase):
     def test_section_3(self):
@@ -201,6 +257,18 @@ class Examples(unittest.TestCase):
 
     def test_section_13(self):
         self.assertEqual(run_examples(self, ROADS), 3)
+
+    def test_section_14(self):
+        self.assertEqual(run_examples(self, NUMBERS), 2)
+
+    def test_section_15(self):
+        self.assertEqual(run_examples(self, SEEN), 3)
+
+    def test_section_16(self):
+        self.assertEqual(run_examples(self, FAMILIES), 4)
+
+    def test_section_17(self):
+        self.assertEqual(run_examples(self, CHANGES), 3)
 
 
 if __name__ == "__main__":

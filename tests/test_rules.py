@@ -88,7 +88,15 @@ class Rules(unittest.TestCase):
                        "least_unlike joined_with helping_lamps",
             "ways": "piece_bound way_bound piece_way is_piece_way way_between is_way",
             "roads": "fewest_deeds shortest_road is_shortest_road many_shortest first_deeds class_of by_deeds farthest "
-                     "is_farthest width"}
+                     "is_farthest width",
+            "numbers": "by_sign by_planes by_marks class_size class_number classes_by_size whole_size whole_number "
+                       "still_by_sign",
+            "seen": "is_show is_so can_show shown is_shown many_shown why_dark is_why_dark all_together most_told "
+                    "is_most_told least_weight lightest is_lightest lit_numbers",
+            "families": "row_net ring_net star_net full_net wheel_net comb_net ladder_net in_order is_in_order forms "
+                        "kind_by_forms is_tree fork is_fork shorn",
+            "changes": "changed changed_by setting_along kinds_changed keeps_paired tie_sets_number needed_ties "
+                       "linking_ties parting_lots"}
         tested = {(function.__module__, function.__name__) for function, _, _ in self.each_call()}
         self.assertEqual(sorted(tested), sorted(("oddlamps." + place, name) for place in listed
                                                 for name in listed[place].split()))

@@ -4,6 +4,7 @@ import unittest
 
 import all_rows
 from helpers import frozen
+from oddlamps.changes import linking_ties
 from oddlamps.errors import InvalidLamps, InvalidNet, InvalidSetting, Refused, Unlike
 from oddlamps.nets import Net, side_by_side, without_stuck
 
@@ -65,7 +66,7 @@ class Wrong(unittest.TestCase):
                     before = frozen(wrong)
                     self.assertIs(function(*right[:-1], wrong), False, (function, wrong))
                     self.assertEqual(frozen(wrong), before)
-        self.assertEqual(judged, 25)
+        self.assertEqual(judged, 32)
 
     def test_judges_raise_for_other_arguments_whatever_they_judge(self):
         for function, parameters in all_rows.ROWS:
@@ -82,7 +83,8 @@ class Wrong(unittest.TestCase):
             names = [name for name, _, error, _ in parameters if error is InvalidSetting]
             if names and [name for name, _, _, _ in parameters] == ["net"] + names:
                 for net in nets:
-                    function(net, *[[] for _ in names])
+                    if function is not linking_ties:
+                        function(net, *[[] for _ in names])
                     for at in range(len(names)):
                         for wrong in (["s"], ["b", "a"], ("a",), None, ["a", "a"], "a"):
                             arguments = [net] + [["a"]] * at + [wrong] + [None] * (len(names) - at - 1)
