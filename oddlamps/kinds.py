@@ -32,3 +32,12 @@ def are_unlike(values):
 def is_ascending(values):
     """Tell whether a list of words or numbers is ascending."""
     return values == sorted(set(values))
+
+
+def copied(value):
+    """Return any object with new lists in it, in tuples, too; what else it is made of never changes."""
+    if isinstance(value, list):
+        return [copied(item) for item in value]
+    if isinstance(value, tuple):
+        return tuple([copied(item) for item in value])
+    return value

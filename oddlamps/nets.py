@@ -46,10 +46,11 @@ class Net:
 
 def _are_ties(value, near):
     """Tell whether any object is a list of unlike ties of the lamps that are keys of near."""
-    return isinstance(value, list) and all([_is_tie(tie, near) for tie in value]) and are_unlike(value)
+    return isinstance(value, list) and all([is_tie(near, tie) for tie in value]) and are_unlike(value)
 
 
-def _is_tie(value, near):
+def is_tie(near, value):
+    """Tell whether any object is a tuple of two unlike lamps that are keys of near, the lesser first."""
     return (isinstance(value, tuple) and len(value) == 2
             and all([isinstance(lamp, str) and lamp in near for lamp in value])
             and value[0] < value[1])

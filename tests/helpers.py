@@ -5,6 +5,7 @@ import itertools
 import random
 
 from oddlamps.errors import LampError
+from oddlamps.hall import Hall
 from oddlamps.nets import Net
 
 LETTERS = "abcdefghijklmnopqrstuvwxyz"
@@ -16,6 +17,10 @@ def frozen(value):
         return ("net", frozen(value.lamps()), frozen(value.ties()), frozen(value.wishes()))
     if isinstance(value, LampError):
         return (type(value).__name__, id(value))
+    if isinstance(value, Hall):
+        there = [(spot, value.net_there(spot), value.setting_there(spot), value.aim_there(spot))
+                 for spot in value.spots()]
+        return ("hall", frozen(there), frozen(value.log()))
     if isinstance(value, dict):
         return ("dict", tuple((frozen(key), frozen(value[key])) for key in value))
     if isinstance(value, (list, tuple)):

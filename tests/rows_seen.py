@@ -117,7 +117,8 @@ ROWS = [
     (is_show, [net, ("value", SHOW, None, WRONG_SHOWS)]),
     (is_so, HERE + [show]), (can_show, HERE + [show]), (shown, HERE + [show]), (shown, HERE + [barred]),
     (is_shown, HERE + [("show", (["a", "s"], ["c", "t"]), InvalidShow, WRONG_SHOWS),
-                       ("value", shown(NET, SETTING, SHOW), None, WRONG_RISING + [SETTING, [], ["s"], ["a"], ["a", "c", "s"]])]),
+                       ("value", shown(NET, SETTING, SHOW), None, WRONG_RISING + [
+                           SETTING, [], ["s"], ["a"], ["a", "c", "s"]])]),
     (many_shown, HERE + [show]), (why_dark, HERE + [barred]), (why_dark, HERE + [show]),
     (is_why_dark, HERE + [barred, ("value", BAR, None, WRONG_BARS)]),
     (all_together, HERE + [rising]), (most_told, HERE + [barred]),

@@ -223,6 +223,63 @@ five = changed(four, ("put", "e", "odd", ["d"]))
 # [[[0], [2]], 'stuck']
 """
 
+GLUE = """
+from oddlamps.families import row_net
+from oddlamps.glue import are_lone_points, leafy_points, lone_points, met_kind, tied, tied_kind
+from oddlamps.nets import Net
+row = row_net(list("abcd"), {lamp: "odd" for lamp in "abcd"})
+alone = Net(["v"], [], {"v": "odd"})
+pair = row_net(["v", "w"], {"v": "odd", "w": "even"})
+[tied(row, alone, "c", "v").ties(), tied_kind(row, alone, "c", "v"), tied_kind(row, pair, "c", "v"), tied_kind(row, pair, "a", "v")]
+# [[('a', 'b'), ('b', 'c'), ('c', 'd'), ('c', 'v')], 'paired', 'core', 'paired']
+points = {"a": (0, 1), "b": (1, 2), "c": (2, 3), "d": (3, 4)}
+[lone_points(row, list("abcd"), "c"), are_lone_points(row, list("abcd"), "a", points), are_lone_points(row, list("abcd"), "b", points), leafy_points(row, list("abcd"), "c") is None]
+# [None, True, False, False]
+[met_kind(row, row_net(["c", "v"], {"c": "odd", "v": "odd"}), "c"), met_kind(row, row_net(["c", "v", "w"], {"c": "odd", "v": "odd", "w": "odd"}), "c"), met_kind(row, row_net(["a", "v", "w"], {"a": "odd", "v": "odd", "w": "odd"}), "a")]
+# ['paired', 'core', 'paired']
+"""
+
+HALL = """
+from oddlamps.hall import Hall, replayed
+from oddlamps.nets import Net
+pair = Net(["a", "b"], [("a", "b")], {"a": "odd", "b": "odd"})
+hall = Hall()
+[hall.put(pair, ["a"]), hall.ready_there(0), hall.switch(0, "b"), hall.switch(0, "a"), hall.setting_there(0), hall.aim(0, ["a"]), hall.is_met(0)]
+# [0, ['b'], ['a'], [], ['b'], None, False]
+[hall.is_way(0, hall.way(0)), hall.is_way(0, ["b", "a"]), hall.lead(0, ["a", "b"]), hall.is_met(0), hall.let_go(0), hall.tie(0, ("a", "b")), hall.ready_there(0)]
+# [True, False, None, True, None, None, []]
+[hall.put(Net(["m", "x"], [("m", "x")], {"m": "stuck", "x": "even"}), []), hall.ready_there(1), hall.push(1, "m"), hall.rewish(1, "x", "odd"), hall.ready_there(1)]
+# [1, ['x'], [], None, ['x']]
+[hall.lay(0, 1), hall.spots(), hall.net_there(0).lamps(), hall.setting_there(0), hall.undo(), hall.alike_spots(1), len(hall.log())]
+# [None, [0], ['a', 'b', 'm', 'x'], ['a', 'm'], None, [], 10]
+replayed(Hall(), hall.log()).setting_there(1)
+# ['m']
+"""
+
+SCRIPTS = r"""
+from oddlamps.hall import Hall
+from oddlamps.nets import Net
+from oddlamps.scripts import end_of, play, read_script, script_text, shortened
+pair = Net(["a", "b"], [("a", "b")], {"a": "odd", "b": "odd"})
+day = [("put", pair, ["a"]), ("switch", 0, "a"), ("ready_there", 0), ("try", [("switch", 0, "b"), ("aim", 0, ["b"])]), ("switch", 0, "b"), ("undo",), ("aim", 0, [])]
+play(Hall(), day)
+# [('put', 0), ('refused', 'Refused'), ('told', ['b']), ('tried', [('told', ['a']), ('done',)]), ('told', ['a']), ('done',), ('refused', 'Refused')]
+[end_of(day) == {0: (pair, ["a"], None)}, shortened(day) == [day[0], day[4], day[5]], read_script(script_text(day)) == day]
+# [True, True, True]
+script_text([("lead", 0, ["a", "b"]), ("tie", 0, ("a", "b")), ("rewish", 0, "a", "even"), ("aim", 0, []), ("try", [("undo",)])])
+# 'lead 0 a b\ntie 0 a b\nrewish 0 a even\naim 0\ntry\n  undo\nend'
+script_text([("put", pair, ["a"]), ("try", [])])
+# 'put a\n  a odd b\n  b odd\nend\ntry\nend'
+"""
+
+PAPERS = r"""
+from oddlamps.nets import Net
+from oddlamps.papers import change_text, net_text, read_change, read_net, read_road, road_text
+net = Net(["b", "a", "c"], [("a", "c"), ("a", "b")], {"a": "odd", "b": "stuck", "c": "even"})
+[net_text(net), read_net(net_text(net)) == net, change_text(("put", "d", "odd", ["a", "c"])), read_change("put d odd"), road_text(["a", "b", "a"]), read_road("")]
+# ['a odd b c\nb stuck\nc even', True, 'put d odd a c', ('put', 'd', 'odd', []), 'a b a', []]
+"""
+
 
 class Examples(unittest.TestCase):
     def test_section_3(self):
@@ -269,6 +326,18 @@ class Examples(unittest.TestCase):
 
     def test_section_17(self):
         self.assertEqual(run_examples(self, CHANGES), 3)
+
+    def test_section_18(self):
+        self.assertEqual(run_examples(self, GLUE), 3)
+
+    def test_section_19(self):
+        self.assertEqual(run_examples(self, HALL), 5)
+
+    def test_section_20(self):
+        self.assertEqual(run_examples(self, SCRIPTS), 4)
+
+    def test_section_21(self):
+        self.assertEqual(run_examples(self, PAPERS), 1)
 
 
 if __name__ == "__main__":

@@ -5,6 +5,8 @@ import unittest
 import all_rows
 import rows
 from helpers import frozen, odd_net, spoil, thawed, turned_about
+from oddlamps import hall, papers, scripts
+from oddlamps.hall import Hall
 from oddlamps.nets import Net
 from oddlamps.points import are_points, put_in_order, rise
 
@@ -96,12 +98,22 @@ class Rules(unittest.TestCase):
             "families": "row_net ring_net star_net full_net wheel_net comb_net ladder_net in_order is_in_order forms "
                         "kind_by_forms is_tree fork is_fork shorn",
             "changes": "changed changed_by setting_along kinds_changed keeps_paired tie_sets_number needed_ties "
-                       "linking_ties parting_lots"}
+                       "linking_ties parting_lots",
+            "glue": "tied met lone_points leafy_points are_lone_points are_leafy_points tied_kind met_kind",
+            "hall": "replayed", "scripts": "script_text end_of shortened",
+            "papers": "net_text read_net change_text read_change"}
         tested = {(function.__module__, function.__name__) for function, _, _ in self.each_call()}
         self.assertEqual(sorted(tested), sorted(("oddlamps." + place, name) for place in listed
                                                 for name in listed[place].split()))
         for name in ("lamps", "ties", "wishes", "__eq__"):
             self.assertIn(name, vars(Net))
+        for name in ("put take spots net_there setting_there aim_there switch ready_there lead aim let_go is_met "
+                     "is_way way push tie rewish lay alike_spots trial attempt copy undo redo log").split():
+            self.assertIn(name, vars(Hall))
+        # What changes a hall, and what takes texts that are lists of words, has tests of its own.
+        for place, names in ((papers, "read_road road_text"), (scripts, "play read_script"), (hall, "Hall")):
+            for name in names.split():
+                self.assertEqual(getattr(place, name).__module__, place.__name__)
 
     def test_true_is_not_one_after_a_call_with_one(self):
         """A call with 1 and one with True are unlike, whichever comes first."""

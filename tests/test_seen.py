@@ -15,7 +15,8 @@ from oddlamps.seen import (
 from test_tempers import own_heights, own_marked
 
 NETS = small_nets() + [random_net(seed, 6, 0.4, 0.3) for seed in range(10)] + [
-    made_net("abcdest", RING + " as bt ct", "!s !t"), made_net("abxys", "ab xy bs", "x !s"), made_net("st", "st", "!s !t")]
+    made_net("abcdest", RING + " as bt ct", "!s !t"), made_net("abxys", "ab xy bs", "x !s"),
+    made_net("st", "st", "!s !t")]
 SMALL = [net for net in NETS if len(net.lamps()) <= 6]
 
 

@@ -6,6 +6,7 @@ import all_rows
 from helpers import frozen
 from oddlamps.changes import linking_ties
 from oddlamps.errors import InvalidLamps, InvalidNet, InvalidSetting, Refused, Unlike
+from oddlamps.hall import Hall
 from oddlamps.nets import Net, side_by_side, without_stuck
 
 
@@ -13,7 +14,8 @@ def wrong_ones(parameter):
     """Return wrong arguments for a parameter: those of its row, and such as nothing wants."""
     name, right, _, wrong = parameter
     known = [frozen(right)] + [frozen(thing) for thing in wrong]
-    return wrong + [thing for thing in all_rows.NOTHINGS if frozen(thing) not in known]
+    return wrong + [thing for thing in all_rows.NOTHINGS if frozen(thing) not in known
+                    and not (name == "hall" and isinstance(thing, Hall))]
 
 
 class Wrong(unittest.TestCase):
@@ -66,7 +68,7 @@ class Wrong(unittest.TestCase):
                     before = frozen(wrong)
                     self.assertIs(function(*right[:-1], wrong), False, (function, wrong))
                     self.assertEqual(frozen(wrong), before)
-        self.assertEqual(judged, 32)
+        self.assertEqual(judged, 34)
 
     def test_judges_raise_for_other_arguments_whatever_they_judge(self):
         for function, parameters in all_rows.ROWS:
