@@ -5,7 +5,7 @@ from itertools import combinations
 from oddlamps.bits import bits_of, near_masks
 from oddlamps.cores import kind_of
 from oddlamps.errors import Apart, InvalidChange, InvalidChanges, InvalidLamps, Refused
-from oddlamps.joining import alike_in_stuck, joined, need_settings, parting_pieces
+from oddlamps.joining import joined
 from oddlamps.kinds import are_words, is_ascending, is_word
 from oddlamps.nets import WISHES, Net, cut_to, need_list_of, need_net, need_piece, pieces
 from oddlamps.pairing import any_pairing, lots_of
@@ -154,15 +154,10 @@ def needed_ties(net, one, other):
 
 def linking_ties(net, one, other):
     """Return the ascending list of the tuples of two lamps, any one of which as a tie joins two settings."""
-    need_settings(net, one, other)
     if joined(net, one, other):
         raise Refused(other)
-    if not alike_in_stuck(net, one, other):
-        return []
-    lamps, ties, parting = net.lamps(), net.ties(), parting_pieces(net, one, other)
-    # A tie matters to no piece that has neither of its lamps.
-    further = [tie for tie in combinations(lamps, 2)
-               if tie not in ties and all([tie[0] in piece or tie[1] in piece for piece in parting])]
+    lamps, ties = net.lamps(), net.ties()
+    further = [tie for tie in combinations(lamps, 2) if tie not in ties]
     return [tie for tie in further if joined(_with_ties(net, ties + [tie]), one, other)]
 
 
@@ -189,7 +184,6 @@ def _fit_in_turn(net, changes):
 def parting_lots(net, changes, one, other):
     """Return the ascending list of the least lots of changes behind which two joined settings are not joined."""
     _need_forms(net, changes)
-    need_settings(net, one, other)
     _need_joined(net, one, other)
     parting = []
     for places, lot in _lots_that_fit(net, changes):

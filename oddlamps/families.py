@@ -46,7 +46,7 @@ MOST_PAIRED_LAMPS = {"wheel": 5, "comb": 4, "ladder": 4}
 
 
 def _suits(form, many):
-    """Tell whether there is a net of a form of so many lamps, one at least."""
+    """Tell whether there is a net of a form of so many lamps; each has one at least."""
     return many >= FEWEST_LAMPS.get(form, 1) and not (form in HALVED and many & 1)
 
 
@@ -58,7 +58,7 @@ def _pairs_of(form, many):
 
 def _net_of(form, lamps, wishes):
     """Return the net of a form made of a list of lamps."""
-    if not (are_words(lamps) and lamps and are_unlike(lamps) and _suits(form, len(lamps))):
+    if not (are_words(lamps) and are_unlike(lamps) and _suits(form, len(lamps))):
         raise InvalidLamps(lamps)
     ties = [tuple(sorted([lamps[low], lamps[high]])) for low, high in _pairs_of(form, len(lamps))]
     return Net(lamps, ties, wishes)
@@ -150,7 +150,6 @@ def is_in_order(net, piece, form, value):
 
 def forms(net, piece):
     """Return the ascending list of the words of the forms of which a piece is."""
-    need_piece(net, piece)
     return [form for form in sorted(PAIRS) if in_order(net, piece, form) is not None]
 
 
@@ -205,9 +204,8 @@ def is_fork(net, piece, value):
 def shorn(net, piece):
     """Return the ascending list of the lamps that stay if of the leaves at each lamp only the least one stays."""
     need_piece(net, piece)
-    if len(piece) <= 2:
-        return list(piece)
     leaves = leaves_of(net, piece)
+    # Two lamps alone are each the only leaf at the other one.
     least = [[lamp for lamp in near_in(net, piece, middle) if lamp in leaves][:1] for middle in piece]
     kept = [lamp for lamps in least for lamp in lamps]
     return [lamp for lamp in piece if lamp in kept or lamp not in leaves]

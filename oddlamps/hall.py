@@ -8,7 +8,7 @@ from oddlamps.joining import alike_in_stuck, joined
 from oddlamps.kinds import copied, is_count
 from oddlamps.nets import WISHES, is_tie, need_free_lamp, need_lamp, need_stuck_lamp, side_by_side
 from oddlamps.settings import (
-    is_ready, is_road, led, need_road, need_setting, ready_lamps, setting_shifted, switched)
+    is_ready, is_road, led, need_setting, ready_lamps, setting_shifted, switched)
 from oddlamps.ways import way_between
 
 
@@ -101,7 +101,6 @@ class Hall:
     def lead(self, spot, road):
         """Do the deeds of a whole road."""
         net, setting, aim = _there(self, spot)
-        need_road(net, setting, road)
         _keep(self, ("lead", spot, road), spot, (net, led(net, setting, road), aim))
 
     def aim(self, spot, setting):
@@ -275,7 +274,7 @@ def need_hall(hall):
 
 def _is_logged(value):
     """Tell whether any object is a tuple of a command's word and as many things as stand behind it."""
-    if not (isinstance(value, tuple) and value and isinstance(value[0], str) and value[0] in LOGGED):
+    if not (isinstance(value, tuple) and value and value[0] in LOGGED):
         return False
     return len(value) == 1 + len(KINDS[value[0]])
 

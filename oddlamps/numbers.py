@@ -81,8 +81,9 @@ def _moving_sizes(net, piece, setting):
     """Return the sizes of a piece's classes whose settings are not still."""
     ground = ground_in(net, piece, setting)
     if ground is None or ground.odd:
-        all_and_still = list(zip(by_sign(net, piece, setting), still_by_sign(net, piece, setting)))
-        return [many - still for many, still in all_and_still if many > still]
+        # With either sign there are more settings than still ones.
+        numbers = list(zip(by_sign(net, piece, setting), still_by_sign(net, piece, setting)))
+        return [many - still for many, still in numbers]
     numbers_by = _numbers_by_marks(len(piece), ground.level)
     # Where no point is marked, or each one, no lamp is ready.
     return [numbers_by[marks] for marks in numbers_by if 0 < marks < len(ground.level)]

@@ -4,7 +4,7 @@ from oddlamps.bits import bits_of, lamps_of, places_of
 from oddlamps.errors import InvalidShow, InvalidWeights
 from oddlamps.joining import joined
 from oddlamps.kinds import is_count, is_whole
-from oddlamps.nets import free_lamps, is_free, is_lamp, is_piece, need_net, need_rising_lamps, pieces, stuck_lamps
+from oddlamps.nets import free_lamps, is_free, is_piece, need_net, need_rising_lamps, pieces, stuck_lamps
 from oddlamps.outlook import least_and_most_marks, outlook_in
 from oddlamps.points import are_points, pairing_of
 from oddlamps.roads import roads_in
@@ -122,7 +122,7 @@ def is_why_dark(net, setting, show, value):
     if not (isinstance(value, tuple) and len(value) in (2, 6)):
         return False
     if len(value) == 2 and value[0] == "stuck":
-        return is_lamp(net, value[1]) and value[1] in _barred_stuck(net, setting, show)
+        return value[1] in _barred_stuck(net, setting, show)
     if not is_piece(net, value[1]) or value[0] != outlook_in(net, value[1], setting).bound:
         return False
     if len(value) == 2:

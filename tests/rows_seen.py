@@ -41,7 +41,8 @@ WRONG_BARS = [
     BAR[:2] + ({**POINTS, "a": (0, 3)}, FLAT, 4, 4), BAR[:2] + (list(POINTS.items()), FLAT, 4, 4),
     BAR[:2] + (None, FLAT, 4, 4), BAR[:1] + (tuple(PIECE),) + BAR[2:], BAR[:1] + (PIECE[::-1],) + BAR[2:],
     BAR[:1] + (None,) + BAR[2:], BAR[:1] + (["x", "y"],) + BAR[2:], BAR[:3] + (None, 4, 4), (None,) + BAR[1:],
-    (NET,) + BAR[1:], ("marks", ["x", "y"], {"x": (0, 1), "y": (1, 2)}, {0: 0, 1: 1, 2: 0}, 2, 2)]
+    ("stuck",) + BAR[1:], ("stuck", "s", POINTS, FLAT, 4, 4), ("stuck", "s", None, None, None, None), ("sign",) + BAR[1:],
+    ("still",) + BAR[1:], (NET,) + BAR[1:], ("marks", ["x", "y"], {"x": (0, 1), "y": (1, 2)}, {0: 0, 1: 1, 2: 0}, 2, 2)]
 show = ("show", SHOW, InvalidShow, WRONG_SHOWS)
 barred = ("show", BARRED, InvalidShow, WRONG_SHOWS)
 MOST = most_told(NET, ["b", "s", "x"], BARRED)
@@ -75,7 +76,8 @@ WRONG_FORKS = [
     0, "cbdg", [], {}, NET, ["c", "b", "d", "g"], ("c", "b", "d"), ("c", "b", "d", "g", "a"), ("c", "d", "b", "g"),
     ("c", "b", "g", "d"), ("c", "d", "g", "b"), ("c", "b", "d", "d"), ("c", "b", "d", "b"), ("c", "b", "b", "g"),
     ("c", "b", "d", "e"), ("b", "a", "c", "d"), ("c", "b", "d", None), ("c", "b", "d", ["g"]), ("s", "b", "d", "g"),
-    ("c", "b", "d", "s"), ("z", "b", "d", "g"), (None, "b", "d", "g"), ("c", "b", "d", "z"), ("c", 1, 2, "g")]
+    ("c", "b", "d", "s"), ("z", "b", "d", "g"), (None, "b", "d", "g"), ("c", "b", "d", "z"), ("c", 1, 2, "g"), ("c", "b", None, "g"), ("c", None, "d", "g"), (["c"], "b", "d", "g"), ("c", 1, "d", "g"),
+    ("c", ["b"], ["d"], "g")]
 
 WRONG_FORM_CHANGES = [
     0, "take", [], (), {}, NET, ("take",), ("take", "a", "b"), ["take", "a"], ("take", "A"), ("take", 1),

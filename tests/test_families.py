@@ -207,6 +207,9 @@ class Trees(unittest.TestCase):
         for many in range(1, 7):
             for ties in hanging_shapes(many):
                 yield odd_net(many, ties), list(LETTERS[:many])
+                # The same with its lamps called the other way about.
+                sent = dict(zip(LETTERS[:many], reversed(LETTERS[:many])))
+                yield odd_net(many, [tuple(sorted((sent[a], sent[b]))) for a, b in ties]), list(LETTERS[:many])
         for net in small_nets() + [random_net(seed, 8, 0.3, 0.2) for seed in range(12)]:
             for piece in own_net_pieces(net):
                 yield net, piece

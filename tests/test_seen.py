@@ -186,7 +186,8 @@ class Papers(unittest.TestCase):
         if paper[0] == "marks":
             points, levels, least, most = paper[2:]
             reach = [(least - 1, most), (least + 1, most), (least, most - 1), (least, most + 1), (str(least), most),
-                     (least, None), (most + 1, least), (bool(least), bool(most)), (-1, -1), (least - 2, most + 2)]
+                     (least, None), (most + 1, least), (bool(least), bool(most)), (-1, -1), (least - 2, most + 2),
+                     (bool(least), most), (least, bool(most))]
             values.extend(paper[:4] + told for told in reach)
             bent = [{**levels, 0: 1 - levels[0]}, list(levels.values()), {}, {**levels, len(levels): 0}, None]
             values.extend(paper[:3] + (told, least, most) for told in bent)
@@ -210,6 +211,30 @@ class Papers(unittest.TestCase):
                             self.assertIs(can_show(net, one, show), False)
         self.assertEqual(len(seen), 8)
         self.assertGreater(min(seen.values()), 20)
+
+    def test_papers_of_other_lengths(self):
+        net = made_net("abst", "ab bs", "!s !t")
+        show = ([], ["s", "t"])
+        self.assertIs(is_why_dark(net, ["s"], show, ("stuck", "s")), True)
+        for value in (("stuck", "s", None, None, None, None), ("stuck", "s", {}, {}, 0, 0), ("stuck", "s", "s"),
+                      ("stuck", "s", 0, 0), ("stuck",), (), ("stuck", "t"), ("stuck", "a"), ("s", "stuck")):
+            self.assertIs(is_why_dark(net, ["s"], show, value), False)
+        points, levels = {"a": (0, 1), "b": (1, 2)}, {0: 0, 1: 0, 2: 0}
+        told = ["a", "b"], points, levels, 2, 2
+        self.assertEqual([is_why_dark(net, [], (["a"], ["b"]), (word, *told)) for word in ("still", "sign", "marks")],
+                         [False] * 3)
+        self.assertIs(is_why_dark(net, [], (["a"], ["b"]), ("still", ["a", "b"])), True)
+
+    def test_counts_that_are_true_or_false(self):
+        piece, points = list("abcd"), {"a": (0, 1), "b": (1, 2), "c": (2, 3), "d": (3, 4)}
+        flat = {point: 0 for point in range(5)}
+        for wish, one, levels, marks in (("", ["a"], flat, 0), ("a", ["b"], {**flat, 0: 1}, 1)):
+            net, show = made_net("abcd", "ab bc cd", wish), ([], piece)
+            told = ("marks", piece, points, levels)
+            self.assertIs(is_why_dark(net, one, show, told + (marks, marks)), True)
+            for least, most in ((bool(marks), marks), (marks, bool(marks)), (bool(marks), bool(marks)), (None, marks),
+                                (marks, None), (str(marks), marks), (marks, [marks]), (marks - 1, marks - 1)):
+                self.assertIs(is_why_dark(net, one, show, told + (least, most)), False)
 
     def test_heights_turned_about_and_keys_in_any_order(self):
         net = made_net("abc", "ab bc", "a")
